@@ -1,0 +1,1 @@
+"""Shoreways: stones on six-sided cells, and who comes from shore to shore."""
