@@ -1,6 +1,6 @@
 """Boards of six-sided cells: how one is told, and what lies where on it."""
 
-from shoreways.errors import BadBoard, NoCell
+from shoreways.errors import BadBoard, NoCell, NotFull
 
 NORTH = "n"
 WEST = "w"
@@ -63,6 +63,10 @@ def laid(board, r, c, hand):
     return Board(rows)
 
 
+def other_hand(hand):
+    return EXCHANGED[hand]
+
+
 def turned_column(board, c):
     return "".join([EXCHANGED[row[c]] for row in board.rows])
 
@@ -78,3 +82,8 @@ def empty(board):
             if mark == EMPTY:
                 found.append((r, c))
     return found
+
+
+def check_full(board):
+    if len(empty(board)) > 0:
+        raise NotFull("a cell of the board is empty")

@@ -1,7 +1,6 @@
 """Roads: whether a hand comes from its first shore to its other one, and how."""
 
-from shoreways.boards import NORTH, WEST, empty, has_cell, near
-from shoreways.errors import NotFull
+from shoreways.boards import NORTH, WEST, check_full, has_cell, near
 
 
 def first_shore(board, hand):
@@ -58,10 +57,15 @@ def joined(board, hand):
     return road(board, hand) is not None
 
 
-def winner(board):
-    if len(empty(board)) > 0:
-        raise NotFull("a cell of the board is empty")
-    # On a full board just one hand is joined, so the other one need not be asked.
+# On no board are both hands joined, so the order of asking is free.
+def joined_hand(board):
     if joined(board, NORTH):
         return NORTH
-    return WEST
+    if joined(board, WEST):
+        return WEST
+    return None
+
+
+def winner(board):
+    check_full(board)
+    return joined_hand(board)

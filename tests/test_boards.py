@@ -2,26 +2,22 @@
 
 import unittest
 
-from helper import HANDS, all_rows, cells_of, exchanged, mixed_rows, with_stone
+from helper import (
+    GREAT,
+    HANDS,
+    TOO_GREAT_TO_WRITE,
+    all_rows,
+    cells_of,
+    exchanged,
+    mixed_rows,
+    no_cells,
+    with_stone,
+)
 
 from shoreways.boards import Board, empty, laid, near, sign, turned_over
 from shoreways.errors import BadBoard, NoCell
 
-GREAT = 10 ** 40
-# Python doesn't turn a number of so many digits into a text.
-TOO_GREAT_TO_WRITE = 10 ** 5000
-
 SIZES = ((1, 1), (1, 9), (9, 1), (9, 9), (2, 5), (5, 2))
-
-
-def no_cells(height, width):
-    """Places that are no cells: one below 0, one beyond the last, and far off."""
-    outside_rows = (-1, height, -height, -height - 1, 10, 100, -100, GREAT, -GREAT, TOO_GREAT_TO_WRITE)
-    outside_columns = (-1, width, -width, -width - 1, 10, 100, -100, GREAT, -GREAT, -TOO_GREAT_TO_WRITE)
-    places = [(r, c) for r in outside_rows for c in (0, width - 1)]
-    places += [(r, c) for r in (0, height - 1) for c in outside_columns]
-    places += [(-1, -1), (-1, width), (height, -1), (height, width), (GREAT, -GREAT)]
-    return places
 
 
 class BoardsMade(unittest.TestCase):

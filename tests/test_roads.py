@@ -5,6 +5,7 @@ import unittest
 from helper import (
     CLIMBING,
     HANDS,
+    SMALL_FULL,
     SNAKE,
     all_rows,
     cells_of,
@@ -20,7 +21,6 @@ from shoreways.errors import NotFull
 from shoreways.roads import joined, road, winner
 
 SMALL = ((1, 1), (1, 2), (2, 1), (1, 5), (5, 1), (2, 2), (2, 3), (3, 2), (2, 4), (4, 2), (3, 3))
-SMALL_FULL = SMALL + ((1, 9), (9, 1), (2, 5), (5, 2), (3, 4), (4, 3))
 
 
 class RoadTests(unittest.TestCase):
